@@ -4,6 +4,9 @@
 class LikeError(ValueError):
     """Any refusal."""
 
+    def __init__(self, words=""):
+        ValueError.__init__(self, words)
+
 
 class NoPlace(LikeError):
     """A path or a place that leads nowhere."""

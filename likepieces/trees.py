@@ -14,7 +14,6 @@ SIGNS = ("+", "-", "*", "/", "<", "=")
 LONGEST_NAME = 8
 GREATEST_VALUE = 999999999
 MOST_TIMES = 5
-MOST_PARTS = 6
 
 NODE = "node"
 OPENED = "opened"
@@ -59,9 +58,9 @@ RULES = {
     "set": (is_name, 1, 1),
     "say": (None, 1, 1),
     "take": (None, 0, 0),
-    "do": (None, 1, MOST_PARTS),
+    "do": (None, 1, 6),
     "again": (is_times, 1, 1),
-    "call": (is_name, 0, MOST_PARTS),
+    "call": (is_name, 0, 6),
 }
 
 
@@ -153,11 +152,11 @@ def built(rows):
     """The tree of which these are the flat rows; a whole tree may stand as the head of a row
     without parts."""
     done = []
-    for own, many in reversed(rows):
+    for lead, many in reversed(rows):
         start = len(done) - many
         inner = done[start:]
         del done[start:]
-        done.append(own + tuple(inner[::-1]))
+        done.append(lead + tuple(inner[::-1]))
     return done[0]
 
 

@@ -44,6 +44,9 @@ class Refusals(unittest.TestCase):
             for text in ("", "why", "a long one, with blanks"):
                 self.assertEqual(str(getattr(errors, name)(text)), text)
 
+    def test_the_base_is_made_of_a_text_or_of_nothing(self):
+        self.assertEqual((str(LikeError("why")), str(LikeError())), ("why", ""))
+
     def test_each_stands_straight_beneath_the_base(self):
         self.assertEqual(LikeError.__bases__, (ValueError,))
         for kind in refusals():

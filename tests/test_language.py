@@ -230,7 +230,8 @@ class Language(unittest.TestCase):
         else:
             self.assertIsInstance(around, ast.Call, where)
             walker = getattr(around.func, "id", getattr(around.func, "attr", ""))
-            self.assertTrue(walker in WALKERS or walker == "join" or ast.unparse(around).startswith("reversed(range("), where)
+            backward = ast.unparse(around).startswith("reversed(range(")
+            self.assertTrue(walker in WALKERS or walker == "join" or backward, where)
 
     def set_on_the_spot(self, node, around, where):
         kept = isinstance(around, ast.Assign) and isinstance(around.targets[0], ast.Name)

@@ -1,5 +1,6 @@
 """[2], [4], [5], [6]: names, values, expressions, parts, nodes, paths, pieces."""
 
+import copy
 import unittest
 
 from likepieces.errors import NoPlace
@@ -160,6 +161,13 @@ class Expressions(unittest.TestCase):
         )
         self.wrong(("let", "x", ("let", "x", ONE, bound), ONE), ("let", "x", ONE, ("let", "x", bound, ONE)))
         self.wrong(("let", "x", ONE, ("do", ("let", "x", ONE, X), bound)))
+
+    def test_nothing_handed_in_is_changed(self):
+        for thing in (["do", ONE, ["num", 1]], ("do", ["num", 1]), (["say"], [[1, "x"], ("x",)])):
+            kept = copy.deepcopy(thing)
+            self.assertIs(is_expression(thing), False)
+            self.assertIs(is_name(thing), False)
+            self.assertEqual(thing, kept)
 
     def test_great_ones_are_expressions_all_the_same(self):
         many = ("do",) + (("do",) + (("do",) + (ONE,) * 6,) * 6,) * 6
