@@ -2,6 +2,8 @@
 
 import random
 
+from likepieces.trees import is_expression
+
 WORDS = ("num", "name", "op", "pick", "let", "set", "say", "take", "do", "again", "call", "own", "hole")
 NAMES = ("a", "b", "x", "y", "total")
 SIGNS = "+-*/<="
@@ -152,6 +154,81 @@ def some_expressions(seed, many, most_deep=5, names=NAMES):
     """So many expressions, always the same ones for a seed."""
     rng = random.Random(seed)
     return [some_expression(rng, rng.randint(1, most_deep), names) for at in range(many)]
+
+
+def fits_body(e, params, counts):
+    """Whether e, an expression, may stand as a body of a function with these params, behind functions
+    whose counts of params are told."""
+    for path, node in each_path(e):
+        if node[0] == "call" and counts.get(node[1], -1) != len(kids(node)):
+            return False
+        if node[0] == "set" and node[1] in params:
+            return False
+    return True
+
+
+def mended(rng, e, counts):
+    """The expression with calls of the functions whose counts of params are told alone."""
+    inner = [mended(rng, kid, counts) for kid in kids(e)]
+    if e[0] != "call":
+        return with_kids(e, inner)
+    if not counts:
+        return ("do",) + tuple(inner) if inner else ("take",)
+    name = rng.choice(sorted(counts))
+    inner = (inner + [("num", at) for at in range(6)])[:counts[name]]
+    return ("call", name) + tuple(inner)
+
+
+def with_copy(rng, e, params):
+    """The expression with a copy of one of its pieces, some names exchanged, in the place of another one,
+    where that is an expression that sets no param."""
+    path, old = rng.choice(each_path(e))
+    other, new = rng.choice([row for row in each_path(e) if row[1][0] not in ("num", "name", "take")] or [((), e)])
+    names = dict(zip(NAMES, rng.sample(NAMES, len(NAMES)))) if rng.random() < 0.5 else {}
+    found = replaced(e, path, renamed_all(new, names))
+    fits = is_expression(found) and len(each_path(found)) <= 60
+    return found if fits and all(node[1] not in params for way, node in each_path(found) if node[0] == "set") else e
+
+
+def renamed_all(e, table):
+    """The expression with the names of its names, sets and lets exchanged by a dict."""
+    inner = [renamed_all(kid, table) for kid in kids(e)]
+    if e[0] in ("name", "set", "let"):
+        e = (e[0], table.get(e[1], e[1])) + e[2:]
+    return with_kids(e, inner)
+
+
+def replaced(e, path, other):
+    """The expression with another one at the path."""
+    if path == ():
+        return other
+    inner = list(kids(e))
+    inner[path[0]] = replaced(inner[path[0]], path[1:], other)
+    return with_kids(e, inner)
+
+
+def some_program(rng, most_functions=3, most_deep=4, copies=4, names=NAMES):
+    """A program by a random source, in which pieces are copied, their names exchanged or not."""
+    functions = []
+    counts = {}
+    for name in ("f", "g", "h", None)[3 - rng.randint(0, most_functions):]:
+        params = tuple(rng.sample(names[:-1], rng.randint(0, 3))) if name else ()
+        while True:
+            body = mended(rng, some_expression(rng, rng.randint(2, most_deep), names), counts)
+            if fits_body(body, params, counts):
+                break
+        for at in range(rng.randint(0, copies)):
+            body = with_copy(rng, body, params)
+        if name is None:
+            return (tuple(functions), body)
+        functions.append((name, params, body))
+        counts[name] = len(params)
+
+
+def some_programs(seed, many, most_functions=3, most_deep=4, copies=4, names=NAMES):
+    """So many programs, always the same ones for a seed."""
+    rng = random.Random(seed)
+    return [some_program(rng, most_functions, most_deep, copies, names) for at in range(many)]
 
 
 def refusal(test, kind, deed, *things):
