@@ -43,6 +43,17 @@ def local_names(program, place):
     return tuple(sorted(set(params + bound_at(body, path))))
 
 
+def around(place):
+    """The place of which this one, whose path isn't (), is a part."""
+    number, path = place
+    return (number, path[:-1])
+
+
+def lies_in(place, other):
+    """Whether the place is the other one or lies within it."""
+    return place[0] == other[0] and place[1][:len(other[1])] == other[1]
+
+
 def node_counts(e):
     """How many nodes each piece of e has, in the order of their paths."""
     counts = []

@@ -39,9 +39,10 @@ def wait(machine, deed, pieces):
 
 def keep_last(machine, many):
     """Of so many values that were come to last the last one alone stays."""
-    last = machine.come[-1]
-    del machine.come[len(machine.come) - many:]
-    machine.come.append(last)
+    come = machine.come
+    last = come[-1]
+    del come[len(come) - many:]
+    come.append(last)
 
 
 def begin_num(machine, node):
@@ -145,9 +146,10 @@ def end_again(machine, node):
 def end_call(machine, node):
     """The parts are done; the body is next, in a frame with nothing but the params."""
     params, body = machine.functions[node[1]]
-    start = len(machine.come) - len(params)
-    machine.frames.append(frame_of(list(zip(params, machine.come[start:]))))
-    del machine.come[start:]
+    come = machine.come
+    start = len(come) - len(params)
+    machine.frames.append(frame_of(list(zip(params, come[start:]))))
+    del come[start:]
     wait(machine, (LEAVE, node), (body,))
 
 
@@ -157,27 +159,27 @@ def leave_call(machine, node):
 
 
 DEEDS = {
-    (BEGIN, "num"): begin_num,
-    (BEGIN, "name"): begin_name,
-    (BEGIN, "take"): begin_take,
-    (BEGIN, "op"): begin_all,
-    (BEGIN, "set"): begin_all,
-    (BEGIN, "say"): begin_all,
-    (BEGIN, "do"): begin_all,
-    (BEGIN, "call"): begin_all,
-    (BEGIN, "pick"): begin_first,
-    (BEGIN, "let"): begin_first,
-    (BEGIN, "again"): begin_again,
-    (END, "op"): end_op,
-    (END, "set"): end_set,
-    (END, "say"): end_say,
-    (END, "do"): end_do,
-    (END, "call"): end_call,
-    (END, "pick"): end_pick,
-    (END, "let"): end_let,
-    (END, "again"): end_again,
-    (LEAVE, "let"): leave_let,
-    (LEAVE, "call"): leave_call,
+    ("begin", "num"): begin_num,
+    ("begin", "name"): begin_name,
+    ("begin", "take"): begin_take,
+    ("begin", "op"): begin_all,
+    ("begin", "set"): begin_all,
+    ("begin", "say"): begin_all,
+    ("begin", "do"): begin_all,
+    ("begin", "call"): begin_all,
+    ("begin", "pick"): begin_first,
+    ("begin", "let"): begin_first,
+    ("begin", "again"): begin_again,
+    ("end", "op"): end_op,
+    ("end", "set"): end_set,
+    ("end", "say"): end_say,
+    ("end", "do"): end_do,
+    ("end", "call"): end_call,
+    ("end", "pick"): end_pick,
+    ("end", "let"): end_let,
+    ("end", "again"): end_again,
+    ("leave", "let"): leave_let,
+    ("leave", "call"): leave_call,
 }
 
 

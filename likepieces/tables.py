@@ -1,7 +1,7 @@
 """Tables: all pieces of a program beside those that are alike to them, and which groups grow."""
 
 from likepieces.likes import shape_rows
-from likepieces.pieces import piece_at, places_of
+from likepieces.pieces import around, piece_at, places_of
 from likepieces.trees import built
 
 
@@ -18,12 +18,6 @@ def table(program, least):
     """The rows (shape, places) of all pieces with so many nodes or more."""
     found = gathered(program, least)
     return tuple([(built(rows), tuple(found[rows])) for rows in found])
-
-
-def around(place):
-    """The place of which this one, whose path isn't (), is a part."""
-    number, path = place
-    return (number, path[:-1])
 
 
 def mark(places, row_of):

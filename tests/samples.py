@@ -212,7 +212,7 @@ def some_program(rng, most_functions=3, most_deep=4, copies=4, names=NAMES):
     functions = []
     counts = {}
     for name in ("f", "g", "h", None)[3 - rng.randint(0, most_functions):]:
-        params = tuple(rng.sample(names[:-1], rng.randint(0, 3))) if name else ()
+        params = tuple(rng.sample(names[:-1], rng.randint(0, min(3, len(names) - 1)))) if name else ()
         while True:
             body = mended(rng, some_expression(rng, rng.randint(2, most_deep), names), counts)
             if fits_body(body, params, counts):

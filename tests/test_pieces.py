@@ -78,6 +78,11 @@ class Locals(unittest.TestCase):
         self.locals((1, ()))
         self.locals((1, (1, 0)))
 
+    def test_many_sorted(self):
+        body = ("let", "k", ONE, ("let", "h", ONE, ("let", "e", ONE, ("let", "b", ONE, ("take",)))))
+        program = ((("f", ("j", "i", "g", "f", "d", "c"), body),), ONE)
+        self.assertEqual(local_names(program, (0, (1, 1, 1, 1))), tuple("bcdefghijk"))
+
     def test_lets_around(self):
         self.locals((0, (1, 0)), "b", "x")
         self.locals((0, (1, 1)), "a", "b", "x")
