@@ -93,12 +93,12 @@ def fresh_names(many, taken):
     return found
 
 
-def let_names(e, avoided):
-    """For each name that a let of e has another one, as a dict, unlike ones for unlike names,
-    none of them avoided; it stays where it can."""
+def let_names(e, avoided, taken):
+    """For each name that a let of e has another one, as a dict, unlike ones for unlike names; it stays
+    where it is not avoided, else it becomes none of those avoided or taken."""
     lets = {node[1]: node[1] for deed, node in steps(e) if deed == OPENED}
     caught = [name for name in lets if name in avoided]
-    others = fresh_names(len(caught), avoided + list(lets))
+    others = fresh_names(len(caught), avoided + taken + list(lets))
     for name, other in zip(caught, others):
         lets[name] = other
     return lets
@@ -114,8 +114,35 @@ def exchanged_head(node, own, free, lets):
     return head(node)
 
 
+def with_names(e, free, lets):
+    """The expression e with its free names and those of its lets exchanged as these dicts tell."""
+    return built([(exchanged_head(node, own, free, lets), len(parts(node))) for node, own in owned(e)])
+
+
 def exchanged(e, pairs):
     """An expression like e, but its free names exchanged by the pairs, or NoExchange."""
     free = exchange_of(free_names(e), pairs)
-    lets = let_names(e, list(free.values()))
-    return built([(exchanged_head(node, own, free, lets), len(parts(node))) for node, own in owned(e)])
+    return with_names(e, free, let_names(e, list(free.values()), []))
+
+
+def boxes_in(params, body):
+    """The names of boxes in the body of a function with these params, each once, in the order in which they stand."""
+    return [name for name in free_names(body) if name not in params]
+
+
+def names_within(e):
+    """The names of all names, sets and lets of e."""
+    return [node[1] for node, own in owned(e) if node[0] in ("name", "set", "let")]
+
+
+def with_boxes(params, body, become, avoided):
+    """The params and the body of a function with its boxes' names exchanged as this dict tells; params and
+    lets get other names where theirs are avoided."""
+    boxes = {name: become.get(name, name) for name in boxes_in(params, body)}
+    caught = [param for param in params if param in avoided]
+    others = fresh_names(len(caught), avoided + list(params) + list(boxes.values()) + names_within(body))
+    free = {param: param for param in params}
+    free.update(dict(zip(caught, others)))
+    told = tuple(free.values())
+    free.update(boxes)
+    return (told, with_names(body, free, let_names(body, avoided, list(free.values()))))
