@@ -147,6 +147,13 @@ class Back(Case):
             program = (functions, ("let", "c", ONE, ("let", "x", A, call("f", op(("name", "c"), op(X, B))))))
             self.back(program, "f")
 
+    def test_names_that_are_made_up_are_no_let_s(self):
+        """The param gets another name, and stands beneath a let with the name that comes first where names are made up."""
+        inner = ("let", "a", ONE, op(X, call("f")))
+        found = self.back(((("f", (), X), ("g", ("x",), inner)), ("let", "x", TWO, inner)), "f")
+        self.assertNotIn(found[0][0][1][0], ("a", "x"))
+        self.assertNotIn(found[1][1], ("a", "x"))
+
     def test_params_stay_where_they_can(self):
         program = ((("f", ("p",), ("let", "x", P, op(X, Z))), ("g", ("x", "y"), op(X, call("f", Y))), ("h", ("z",), Z)), call("g", ONE, TWO))
         found = self.back(program, "f")
@@ -170,6 +177,11 @@ class Back(Case):
             program = (program[0], call("f", program[1]))
         found = self.back(program, "f")
         self.assertEqual(nodes(found[1]), 511)
+        nest = [X]
+        for again in range(8):
+            nest.append(call("f", nest[-1]))
+        found = self.back((program[0], ("do",) + tuple(nest[3:])), "f")
+        self.assertEqual(nodes(found[1]), 1 + 15 + 31 + 63 + 127 + 255 + 511)
         functions = tuple((name, ("x",), op(call(below, X), call(below, X)) if below else op(X, Y)) for below, name in zip((None,) + tuple("abcdefg"), "abcdefgh"))
         found = (functions, call("h", TAKE))
         for name in "abcdefgh":

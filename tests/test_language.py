@@ -71,6 +71,7 @@ def top_names(tree):
 
 def stored(tree):
     names = [node.id for node in ast.walk(tree) if isinstance(node, ast.Name) and not isinstance(node.ctx, ast.Load)]
+    names += [node.name for node in ast.walk(tree) if isinstance(node, ast.ExceptHandler) and node.name]
     return names + [node.arg for node in ast.walk(tree) if isinstance(node, ast.arg)]
 
 

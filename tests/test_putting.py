@@ -403,6 +403,16 @@ class Papers(Case):
         program = (functions, ("do", ("say", X), ("say", Y)))
         self.is_put(program, ((26, (0,)), (26, (1,))), (STILL,), (STILL,))
 
+    def test_words_of_the_tongue_are_no_names(self):
+        """So many functions stand there that the next texts of two letters are do and op."""
+        letters = "abcdefghijklmnopqrstuvwxyz"
+        names = list(letters) + [one + other for one in letters for other in letters]
+        for word in ("do", "op"):
+            functions = tuple((name, (), ONE) for name in names[:names.index(word)] if name != "do")
+            program = (functions, ("do", ("say", X), ("say", Y)))
+            places = ((len(functions), (0,)), (len(functions), (1,)))
+            self.is_put(program, places, (STILL,), (STILL,))
+
     def test_calls_within_the_pieces(self):
         f = ("f", ("x",), op("+", X, ONE))
         g = ("g", ("y",), ("say", ("call", "f", Y)))
